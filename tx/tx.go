@@ -1,0 +1,71 @@
+// Package tx: the right shape of a transaction, and its id.
+package tx
+
+import (
+	"purse/api"
+	"purse/key"
+	"purse/mark"
+)
+
+// RightShape tells whether the transaction has the right shape.
+func RightShape(t api.Tx) bool {
+	if t.Tag < 0 || t.Tag > api.MaxTag {
+		return false
+	}
+	return rightIns(t.Ins) && rightOuts(t.Outs)
+}
+
+// Id tells the id of a transaction, or 0 if it has not the right shape. As an
+// id may be 0 too, RightShape alone tells whether the shape is right.
+func Id(t api.Tx) int {
+	if !RightShape(t) {
+		return 0
+	}
+	h := mark.Mix(1, t.Tag)
+	h = mark.Mix(h, len(t.Ins))
+	for _, in := range t.Ins {
+		h = mark.Mix(h, in.Id)
+		h = mark.Mix(h, in.At)
+	}
+	h = mark.Mix(h, len(t.Outs))
+	for _, out := range t.Outs {
+		h = mark.Mix(h, out.To)
+		h = mark.Mix(h, out.Value)
+	}
+	return h
+}
+
+func rightIns(ins []api.In) bool {
+	if len(ins) > api.MaxIns {
+		return false
+	}
+	for _, in := range ins {
+		if !rightIn(in) {
+			return false
+		}
+	}
+	return true
+}
+
+func rightIn(in api.In) bool {
+	if !mark.Is(in.Id) || in.At < 0 || in.At >= api.MaxOuts {
+		return false
+	}
+	return len(in.Seal) == 0 || key.IsSeal(in.Seal)
+}
+
+func rightOuts(outs []api.Out) bool {
+	if len(outs) < 1 || len(outs) > api.MaxOuts {
+		return false
+	}
+	for _, out := range outs {
+		if !rightOut(out) {
+			return false
+		}
+	}
+	return true
+}
+
+func rightOut(out api.Out) bool {
+	return mark.Is(out.To) && out.Value >= api.Dust && out.Value <= api.MaxValue
+}
