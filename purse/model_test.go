@@ -18,6 +18,8 @@ type spot struct{ id, at int }
 type model struct {
 	seed, gap int
 	blocks    [][]api.Tx
+	paid      []api.Paid // all that were made
+	abandoned map[int]bool
 }
 
 func copied(x api.Tx) api.Tx {
@@ -88,7 +90,11 @@ func (m *model) view() view {
 		}
 	}
 	slices.SortFunc(v.coins, func(a, b api.Coin) int { return (a.Id-b.Id)*100 + a.At - b.At })
-	v.free = v.all
+	for _, c := range v.coins {
+		if !m.held(c) {
+			v.free += c.Value
+		}
+	}
 	return v
 }
 

@@ -4,16 +4,22 @@ package purse
 import (
 	"purse/api"
 	"purse/chain"
+	"purse/choice"
 	"purse/key"
 	"purse/mark"
+	"purse/payments"
 	"purse/tx"
 	"purse/watch"
 )
 
-// Purse is a seed's wallet with the chain that it follows.
+// noChange stands where the index of the change's key would.
+const noChange = -1
+
+// Purse is a seed's wallet with the chain that it follows and its payments.
 type Purse struct {
 	seed, gap int
 	chain     chain.Chain
+	payments  payments.List
 }
 
 // Id tells a transaction's id (P3).
@@ -65,23 +71,79 @@ func (p *Purse) Coins() []api.Coin {
 	return watch.Coins(&p.chain, p.seed, p.gap)
 }
 
-// Balance adds up the own coins, and the free ones (P9): as long as there are
-// no payments, all are free.
+// Balance adds up the own coins, and the free ones (P9).
 func (p *Purse) Balance() (int, int) {
-	all := 0
-	for _, coin := range p.Coins() {
-		all += coin.Value
-	}
-	return all, all
+	coins := p.Coins()
+	free := p.free(coins)
+	return sum(coins), sum(free)
 }
 
 // Pay chooses coins and makes a payment (P10).
 func (p *Purse) Pay(outs []api.Out, rate int, tag int) (api.Paid, api.Errno) {
-	return api.Paid{}, api.OK
+	if rate < 0 || rate > api.MaxRate || !tx.RightTag(tag) {
+		return api.Paid{}, api.ErrArg
+	}
+	// There must be room for the change behind them.
+	if len(outs) > api.MaxOuts-1 || !tx.RightOuts(outs) {
+		return api.Paid{}, api.ErrShape
+	}
+	coins := p.Coins()
+	free := p.free(coins)
+	chosen, errno := choice.Choose(free, outs, rate)
+	if errno != api.OK {
+		return api.Paid{}, errno
+	}
+	paid := withoutChange(chosen.Coins, outs, tag)
+	if chosen.Change > 0 {
+		from := p.payments.NextChange()
+		k, found := watch.Unpaid(&p.chain, p.seed, p.gap, from)
+		if !found {
+			return api.Paid{}, api.ErrGap
+		}
+		paid.Change = k.Index
+		paid.Tx.Outs = append(paid.Tx.Outs, api.Out{To: k.Address, Value: chosen.Change})
+	}
+	id := tx.Id(paid.Tx)
+	if p.chain.HasId(id) {
+		return api.Paid{}, api.ErrTwice
+	}
+	paid.Number = p.payments.Add(paid.Tx.Ins, paid.Change)
+	return paid, api.OK
 }
 
 // Abandon gives a payment up (P11).
-func (p *Purse) Abandon(number int) api.Errno { return api.OK }
+func (p *Purse) Abandon(number int) api.Errno { return p.payments.Abandon(number) }
 
 // Sign seals a payment (P12).
 func (p *Purse) Sign(number int) (api.Tx, api.Errno) { return api.Tx{}, api.OK }
+
+// free lists those of the own coins that a payment may take.
+func (p *Purse) free(own []api.Coin) []api.Coin {
+	var free []api.Coin
+	for _, coin := range own {
+		if !p.payments.Holds(coin.Id, coin.At) {
+			free = append(free, coin)
+		}
+	}
+	return free
+}
+
+func sum(coins []api.Coin) int {
+	total := 0
+	for _, coin := range coins {
+		total += coin.Value
+	}
+	return total
+}
+
+// withoutChange makes a payment that has no number yet.
+func withoutChange(coins []api.Coin, outs []api.Out, tag int) api.Paid {
+	paid := api.Paid{Change: noChange}
+	paid.Tx.Tag = tag
+	for _, coin := range coins {
+		paid.Tx.Ins = append(paid.Tx.Ins, api.In{Id: coin.Id, At: coin.At})
+		paid.Keys = append(paid.Keys, api.Key{Branch: coin.Branch, Index: coin.Index})
+	}
+	paid.Tx.Outs = append(paid.Tx.Outs, outs...)
+	return paid
+}

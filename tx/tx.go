@@ -9,10 +9,23 @@ import (
 
 // RightShape tells whether the transaction has the right shape.
 func RightShape(t api.Tx) bool {
-	if t.Tag < 0 || t.Tag > api.MaxTag {
+	return RightTag(t.Tag) && rightIns(t.Ins) && RightOuts(t.Outs)
+}
+
+// RightTag tells whether a transaction of the right shape may have this tag.
+func RightTag(tag int) bool { return tag >= 0 && tag <= api.MaxTag }
+
+// RightOuts tells whether a transaction of the right shape may have these outputs.
+func RightOuts(outs []api.Out) bool {
+	if len(outs) < 1 || len(outs) > api.MaxOuts {
 		return false
 	}
-	return rightIns(t.Ins) && rightOuts(t.Outs)
+	for _, out := range outs {
+		if !rightOut(out) {
+			return false
+		}
+	}
+	return true
 }
 
 // Id tells the id of a transaction, or 0 if it has not the right shape. As an
@@ -52,18 +65,6 @@ func rightIn(in api.In) bool {
 		return false
 	}
 	return len(in.Seal) == 0 || key.IsSeal(in.Seal)
-}
-
-func rightOuts(outs []api.Out) bool {
-	if len(outs) < 1 || len(outs) > api.MaxOuts {
-		return false
-	}
-	for _, out := range outs {
-		if !rightOut(out) {
-			return false
-		}
-	}
-	return true
 }
 
 func rightOut(out api.Out) bool {

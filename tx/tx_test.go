@@ -17,15 +17,23 @@ func TestIdNought(t *testing.T) {
 	}
 }
 
+func TestRightTag(t *testing.T) {
+	for tag, want := range map[int]bool{-1 << 63: false, -1: false, 0: true, 1: true, api.MaxTag: true, api.MaxTag + 1: false, 1<<63 - 1: false} {
+		if RightTag(tag) != want {
+			t.Errorf("the tag %d is right: %t", tag, !want)
+		}
+	}
+}
+
 func TestRightOuts(t *testing.T) {
 	o := api.Out{To: 5, Value: 10}
 	for _, list := range [][]api.Out{{o}, {o, o}, {o, o, o, o, o, o, o, o}} {
-		if !rightOuts(list) {
+		if !RightOuts(list) {
 			t.Errorf("%d outputs are not right", len(list))
 		}
 	}
 	for _, list := range [][]api.Out{nil, {}, {o, o, o, o, o, o, o, o, o}, {o, o, {To: 5, Value: 9}}, {{To: -1, Value: 10}, o}} {
-		if rightOuts(list) {
+		if RightOuts(list) {
 			t.Errorf("%v are right", list)
 		}
 	}

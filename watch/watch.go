@@ -5,17 +5,13 @@ import (
 	"purse/api"
 	"purse/chain"
 	"purse/key"
+	"purse/sorted"
 )
 
 // Key is a watched key.
 type Key struct {
 	Branch, Index int
 	Address       int
-}
-
-// sorted has own coins by rising Id, those of one Id by rising At.
-type sorted struct {
-	coins []api.Coin
 }
 
 // Window tells how many keys of a branch are watched. Going up once is enough:
@@ -50,15 +46,26 @@ func Keys(c *chain.Chain, seed int, gap int) []Key {
 // Coins lists the own coins by rising Id, those of one Id by rising At.
 func Coins(c *chain.Chain, seed int, gap int) []api.Coin {
 	keys := Keys(c, seed, gap)
-	var own sorted
+	var own sorted.Coins
 	for _, coin := range c.Coins() {
 		place := first(keys, coin.To)
 		if place >= 0 {
 			k := keys[place]
-			own.put(api.Coin{Id: coin.Id, At: coin.At, To: coin.To, Value: coin.Value, Branch: k.Branch, Index: k.Index})
+			own.Put(api.Coin{Id: coin.Id, At: coin.At, To: coin.To, Value: coin.Value, Branch: k.Branch, Index: k.Index})
 		}
 	}
-	return own.coins
+	return own.List
+}
+
+// Unpaid finds the first watched key of the branch Change, from an index on, to
+// whose address no output of the chain goes; false, if there is none.
+func Unpaid(c *chain.Chain, seed int, gap int, from int) (Key, bool) {
+	for _, k := range Keys(c, seed, gap) {
+		if k.Branch == api.Change && k.Index >= from && !c.IsPaid(k.Address) {
+			return k, true
+		}
+	}
+	return Key{}, false
 }
 
 func atMost(window int) int {
@@ -76,20 +83,4 @@ func first(keys []Key, address int) int {
 		}
 	}
 	return -1
-}
-
-// put lays a coin to its place among the others, which are in order.
-func (s *sorted) put(coin api.Coin) {
-	s.coins = append(s.coins, coin)
-	for i := len(s.coins) - 1; i > 0 && isAhead(coin, s.coins[i-1]); i-- {
-		s.coins[i] = s.coins[i-1]
-		s.coins[i-1] = coin
-	}
-}
-
-func isAhead(a api.Coin, b api.Coin) bool {
-	if a.Id != b.Id {
-		return a.Id < b.Id
-	}
-	return a.At < b.At
 }

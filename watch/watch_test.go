@@ -77,3 +77,22 @@ func TestCoinsP9(t *testing.T) {
 		}
 	}
 }
+
+func TestUnpaidP10(t *testing.T) {
+	var c chain.Chain
+	pay(t, &c, 1, 0, api.Change, 0, 2, 3)
+	pay(t, &c, 2, 0, api.Receive, 1, 4)
+	for _, x := range []struct{ gap, from, index int }{
+		{1, 0, 1}, {1, 1, 1}, {1, 2, -1}, {2, 0, 1}, {2, 1, 1}, {2, 2, 4}, {2, 4, 4}, {2, 5, 5}, {2, 6, -1}, {2, 100, -1}, {2, 1<<63 - 1, -1}, {2, -1 << 63, 1},
+	} {
+		k, found := Unpaid(&c, 0, x.gap, x.from)
+		to, _ := key.Address(0, api.Change, x.index)
+		want := Key{api.Change, x.index, to}
+		if x.index < 0 {
+			want = Key{}
+		}
+		if found != (x.index >= 0) || k != want {
+			t.Errorf("gap %d, from %d: %v, %t, want %v", x.gap, x.from, k, found, want)
+		}
+	}
+}
