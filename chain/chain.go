@@ -92,6 +92,16 @@ func (c *Chain) IsPaid(address int) bool {
 	return false
 }
 
+// HasCoin tells whether the chain has this coin, and it is no other.
+func (c *Chain) HasCoin(coin Coin) bool {
+	place := c.find(coin.Id, coin.At)
+	if place < 0 {
+		return false
+	}
+	o := c.outputs[place]
+	return o.to == coin.To && o.value == coin.Value
+}
+
 // Coins lists the coins of the chain, the oldest first.
 func (c *Chain) Coins() []Coin {
 	var coins []Coin

@@ -71,6 +71,38 @@ func TestCoinsComeAndGoP6P7(t *testing.T) {
 	}
 }
 
+// A coin that was spent, that has left, or that is another is not there.
+func TestHasCoinP12(t *testing.T) {
+	var c Chain
+	a := mint(1, 100, 50)
+	id := tx.Id(a)
+	one, two := Coin{id, 0, mine, 100}, Coin{id, 1, mine, 50}
+	holds := func(coin Coin, want bool) {
+		t.Helper()
+		if c.HasCoin(coin) != want {
+			t.Errorf("the chain has the coin %v: %t", coin, !want)
+		}
+	}
+	holds(Coin{}, false)
+	holds(one, false)
+	connects(t, &c, a)
+	holds(one, true)
+	holds(two, true)
+	for _, other := range []Coin{{id + 1, 0, mine, 100}, {id, 2, mine, 100}, {id, -1, mine, 100}, {id, 1, mine, 100}, {id, 0, mine + 1, 100}, {id, 0, mine, 99}, {id, 0, mine, 101}, {}} {
+		holds(other, false)
+	}
+	b := spending(2, 60, api.In{Id: id, At: 0})
+	connects(t, &c, b)
+	holds(one, false)
+	holds(two, true)
+	holds(Coin{tx.Id(b), 0, 5, 60}, true)
+	c.Disconnect()
+	holds(one, true)
+	holds(Coin{tx.Id(b), 0, 5, 60}, false)
+	c.Disconnect()
+	holds(one, false)
+}
+
 // A refused block leaves no output and no spending behind, of whatever transaction.
 func TestRefusedLeavesNothingP6(t *testing.T) {
 	var c Chain

@@ -6,9 +6,12 @@ import (
 	"purse/api"
 )
 
-func adds(t *testing.T, l *List, number int, change int, ins ...api.In) {
+// pay is what the payments of these tests pay.
+var pay = []api.Out{{To: 5, Value: 10}}
+
+func adds(t *testing.T, l *List, number int, change int, coins ...api.Coin) {
 	t.Helper()
-	if n := l.Add(ins, change); n != number {
+	if n := l.Add(coins, pay, 7, change); n != number {
 		t.Errorf("the number is %d, want %d", n, number)
 	}
 }
@@ -28,7 +31,7 @@ func holds(t *testing.T, l *List, held ...int) {
 		for _, h := range held {
 			want = want || h == spot
 		}
-		if l.Holds(spot/10, spot%10) != want {
+		if l.holds(spot/10, spot%10) != want {
 			t.Errorf("%d.%d is held: %t", spot/10, spot%10, !want)
 		}
 	}
@@ -38,10 +41,10 @@ func TestHoldsP9P11(t *testing.T) {
 	var l List
 	holds(t, &l)
 	abandons(t, &l, 0, api.ErrPaid)
-	adds(t, &l, 0, -1, api.In{Id: 1, At: 2}, api.In{Id: 2, At: 1})
+	adds(t, &l, 0, -1, api.Coin{Id: 1, At: 2}, api.Coin{Id: 2, At: 1})
 	holds(t, &l, 12, 21)
-	adds(t, &l, 1, -1, api.In{Id: 0, At: 0})
-	adds(t, &l, 2, -1, api.In{Id: 4, At: 7}, api.In{Id: 0, At: 0})
+	adds(t, &l, 1, -1, api.Coin{Id: 0, At: 0})
+	adds(t, &l, 2, -1, api.Coin{Id: 4, At: 7}, api.Coin{Id: 0, At: 0})
 	holds(t, &l, 12, 21, 0, 47)
 	abandons(t, &l, 1, api.OK)
 	abandons(t, &l, 1, api.ErrPaid)
@@ -53,22 +56,22 @@ func TestHoldsP9P11(t *testing.T) {
 	}
 	abandons(t, &l, 0, api.OK)
 	holds(t, &l)
-	adds(t, &l, 3, -1, api.In{Id: 1, At: 2})
+	adds(t, &l, 3, -1, api.Coin{Id: 1, At: 2})
 	holds(t, &l, 12)
 }
 
-func TestInputsAreNotKeptP2(t *testing.T) {
+func TestCoinsAreNotKeptP2(t *testing.T) {
 	var l List
-	ins := []api.In{{Id: 1, At: 2}, {Id: 3, At: 4}}
-	adds(t, &l, 0, -1, ins[:1]...)
-	ins[0], ins[1] = api.In{}, api.In{}
+	coins := []api.Coin{{Id: 1, At: 2}, {Id: 3, At: 4}}
+	adds(t, &l, 0, -1, coins[:1]...)
+	coins[0], coins[1] = api.Coin{}, api.Coin{}
 	holds(t, &l, 12)
 }
 
 func TestNextChangeP10(t *testing.T) {
 	var l List
 	for n, x := range []struct{ change, next int }{{-1, 0}, {0, 1}, {-1, 1}, {3, 4}, {-1, 4}, {99, 100}} {
-		adds(t, &l, n, x.change, api.In{Id: 1})
+		adds(t, &l, n, x.change, api.Coin{Id: 1})
 		if l.NextChange() != x.next {
 			t.Errorf("after the change %d: next %d, want %d", x.change, l.NextChange(), x.next)
 		}

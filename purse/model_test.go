@@ -18,8 +18,11 @@ type spot struct{ id, at int }
 type model struct {
 	seed, gap int
 	blocks    [][]api.Tx
-	paid      []api.Paid // all that were made
+	paid      []api.Paid   // all that were made
+	took      [][]api.Coin // of each of these the coins, as they were
 	abandoned map[int]bool
+	signed    map[int]bool
+	sealed    map[api.Key]bool
 }
 
 func copied(x api.Tx) api.Tx {
@@ -91,7 +94,7 @@ func (m *model) view() view {
 	}
 	slices.SortFunc(v.coins, func(a, b api.Coin) int { return (a.Id-b.Id)*100 + a.At - b.At })
 	for _, c := range v.coins {
-		if !m.held(c) {
+		if m.isFree(c) {
 			v.free += c.Value
 		}
 	}

@@ -14,16 +14,16 @@ func (m *model) isLive(number int) bool {
 	return number >= 0 && number < len(m.paid) && !m.abandoned[number]
 }
 
-// held tells whether a live payment has the coin as an input.
-func (m *model) held(c api.Coin) bool {
+// isFree tells whether no live payment has the own coin as an input, and its key has sealed nothing.
+func (m *model) isFree(c api.Coin) bool {
 	for _, x := range m.paid {
 		for _, i := range x.Tx.Ins {
 			if m.isLive(x.Number) && i.Id == c.Id && i.At == c.At {
-				return true
+				return false
 			}
 		}
 	}
-	return false
+	return !m.sealed[api.Key{Branch: c.Branch, Index: c.Index}]
 }
 
 func (m *model) abandon(number int) api.Errno {
@@ -39,7 +39,7 @@ func (m *model) abandon(number int) api.Errno {
 
 // candidates, each with its worth.
 func (m *model) candidates(rate int) ([]api.Coin, []int) {
-	coins := slices.DeleteFunc(m.view().coins, func(c api.Coin) bool { return m.held(c) || c.Value-7*rate < 1 })
+	coins := slices.DeleteFunc(m.view().coins, func(c api.Coin) bool { return !m.isFree(c) || c.Value-7*rate < 1 })
 	// The view has them by Id and At already.
 	slices.SortStableFunc(coins, func(a, b api.Coin) int { return b.Value - a.Value })
 	var worths []int
@@ -155,8 +155,10 @@ func (m *model) pay(list []api.Out, rate int, tag int) (api.Paid, api.Errno, int
 		back = sumOf(set, worths) - target - 2*rate
 	}
 	x := api.Paid{Number: len(m.paid), Tx: tx(tag, nil, slices.Clone(list)), Change: -1}
+	var took []api.Coin
 	for i, has := range set {
 		if has {
+			took = append(took, coins[i])
 			x.Tx.Ins = append(x.Tx.Ins, in(coins[i].Id, coins[i].At))
 			x.Keys = append(x.Keys, api.Key{Branch: coins[i].Branch, Index: coins[i].Index})
 		}
@@ -172,16 +174,17 @@ func (m *model) pay(list []api.Out, rate int, tag int) (api.Paid, api.Errno, int
 			return api.Paid{}, api.ErrTwice, 0
 		}
 	}
-	m.paid = append(m.paid, x)
+	m.paid, m.took = append(m.paid, x), append(m.took, took)
 	return x, api.OK, same
 }
 
 // samePaid holds two payments against one another; an empty list is like none.
 func samePaid(a api.Paid, b api.Paid) bool {
-	if !slices.Equal(a.Keys, b.Keys) || !slices.Equal(a.Tx.Outs, b.Tx.Outs) || a.Number != b.Number || a.Tx.Tag != b.Tx.Tag || a.Change != b.Change {
-		return false
-	}
-	return slices.EqualFunc(a.Tx.Ins, b.Tx.Ins, func(x, y api.In) bool {
+	return slices.Equal(a.Keys, b.Keys) && a.Number == b.Number && a.Change == b.Change && sameTx(a.Tx, b.Tx)
+}
+
+func sameTx(a api.Tx, b api.Tx) bool {
+	return a.Tag == b.Tag && slices.Equal(a.Outs, b.Outs) && slices.EqualFunc(a.Ins, b.Ins, func(x, y api.In) bool {
 		return x.Id == y.Id && x.At == y.At && slices.Equal(x.Seal, y.Seal)
 	})
 }
@@ -261,12 +264,7 @@ func (k *maker) confirm(m *model) []api.Tx {
 	if len(m.paid) == 0 {
 		return nil
 	}
-	x := m.paid[k.r.Intn(len(m.paid))]
-	y := copied(x.Tx)
-	for i, key := range x.Keys {
-		y.Ins[i].Seal, _ = purse.Seal(m.seed, key.Branch, key.Index, purse.Id(y))
-	}
-	return block(y)
+	return block(withSeals(m.seed, m.paid[k.r.Intn(len(m.paid))]))
 }
 
 // tally tells what the walks came to.
@@ -331,8 +329,7 @@ func TestWalksP9P10P11(t *testing.T) {
 		for range 70 {
 			switch step := k.r.Intn(12); {
 			case step < 3 && len(m.blocks) > 0 && n%3 > 0:
-				disconnect(t, p)
-				m.blocks = m.blocks[:len(m.blocks)-1]
+				back(t, p, m)
 			case step < 5:
 				c.moveChain(t, p, m, k.block(m))
 			case step < 6:

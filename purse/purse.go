@@ -107,7 +107,7 @@ func (p *Purse) Pay(outs []api.Out, rate int, tag int) (api.Paid, api.Errno) {
 	if p.chain.HasId(id) {
 		return api.Paid{}, api.ErrTwice
 	}
-	paid.Number = p.payments.Add(paid.Tx.Ins, paid.Change)
+	paid.Number = p.payments.Add(chosen.Coins, paid.Tx.Outs, tag, paid.Change)
 	return paid, api.OK
 }
 
@@ -115,13 +115,15 @@ func (p *Purse) Pay(outs []api.Out, rate int, tag int) (api.Paid, api.Errno) {
 func (p *Purse) Abandon(number int) api.Errno { return p.payments.Abandon(number) }
 
 // Sign seals a payment (P12).
-func (p *Purse) Sign(number int) (api.Tx, api.Errno) { return api.Tx{}, api.OK }
+func (p *Purse) Sign(number int) (api.Tx, api.Errno) {
+	return p.payments.Sign(&p.chain, p.seed, number)
+}
 
 // free lists those of the own coins that a payment may take.
 func (p *Purse) free(own []api.Coin) []api.Coin {
 	var free []api.Coin
 	for _, coin := range own {
-		if !p.payments.Holds(coin.Id, coin.At) {
+		if p.payments.IsFree(coin) {
 			free = append(free, coin)
 		}
 	}
@@ -139,11 +141,9 @@ func sum(coins []api.Coin) int {
 // withoutChange makes a payment that has no number yet.
 func withoutChange(coins []api.Coin, outs []api.Out, tag int) api.Paid {
 	paid := api.Paid{Change: noChange}
-	paid.Tx.Tag = tag
+	paid.Tx = tx.Unsealed(coins, outs, tag)
 	for _, coin := range coins {
-		paid.Tx.Ins = append(paid.Tx.Ins, api.In{Id: coin.Id, At: coin.At})
 		paid.Keys = append(paid.Keys, api.Key{Branch: coin.Branch, Index: coin.Index})
 	}
-	paid.Tx.Outs = append(paid.Tx.Outs, outs...)
 	return paid
 }

@@ -1,4 +1,4 @@
-// Package tx: the right shape of a transaction, and its id.
+// Package tx: the right shape of a transaction, its id, and how one is made of coins.
 package tx
 
 import (
@@ -46,6 +46,17 @@ func Id(t api.Tx) int {
 		h = mark.Mix(h, out.Value)
 	}
 	return h
+}
+
+// Unsealed makes the transaction that pays these outputs with these coins, as
+// yet without seals.
+func Unsealed(coins []api.Coin, outs []api.Out, tag int) api.Tx {
+	t := api.Tx{Tag: tag}
+	for _, coin := range coins {
+		t.Ins = append(t.Ins, api.In{Id: coin.Id, At: coin.At})
+	}
+	t.Outs = append(t.Outs, outs...)
+	return t
 }
 
 func rightIns(ins []api.In) bool {

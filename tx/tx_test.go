@@ -1,6 +1,7 @@
 package tx
 
 import (
+	"slices"
 	"testing"
 
 	"purse/api"
@@ -50,5 +51,28 @@ func TestRightIns(t *testing.T) {
 		if rightIns(list) {
 			t.Errorf("%v are right", list)
 		}
+	}
+}
+
+func TestUnsealed(t *testing.T) {
+	coins := []api.Coin{{Id: 3, At: 1, To: 5, Value: 50, Branch: 1, Index: 2}, {Id: 2, At: 7, To: 6, Value: 60}}
+	room := []api.Out{{To: 8, Value: 10}, {To: 9, Value: 20}}
+	outs := room[:1]
+	for range 2 {
+		x := Unsealed(coins, outs, 4)
+		if x.Tag != 4 || len(x.Ins) != 2 || !slices.Equal(x.Outs, outs) {
+			t.Fatalf("the transaction is %v", x)
+		}
+		for i, in := range x.Ins {
+			if in.Id != coins[i].Id || in.At != coins[i].At || in.Seal != nil {
+				t.Errorf("the input %d is %v, the coin %v", i, in, coins[i])
+			}
+		}
+		x.Outs[0] = api.Out{}
+		x.Outs = append(x.Outs, api.Out{})
+		x.Ins[0] = api.In{}
+	}
+	if !slices.Equal(room, []api.Out{{To: 8, Value: 10}, {To: 9, Value: 20}}) {
+		t.Errorf("what was handed in is %v now", room)
 	}
 }
